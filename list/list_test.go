@@ -154,7 +154,7 @@ func TestExample(t *testing.T) {
 	}
 }
 
-// publishedList tells the list of 1972 to 2016 as it is published, with that stamp, expiry and hash.
+// publishedList tells a list of 1972 to 2016 in the shape in which such lists are published, with that stamp, expiry and hash.
 func publishedList(stamp, expiry, hash string) string {
 	s := "#\n#\tUpdated through IERS Bulletin C\n#\n#$\t " + stamp + "\n#\n#@\t" + expiry + "\n#\n" + "2272060800\t10\t# 1 Jan 1972\n"
 	for k, d := range published {
@@ -163,7 +163,7 @@ func publishedList(stamp, expiry, hash string) string {
 	return s + "#\n#h\t" + hash + "\n"
 }
 
-// P10.1, P10.2: lists that were published, with their own hashes.
+// P10.1, P10.2: lists in the shape of those that are published; their hashes were reckoned outside this program.
 func TestPublishedLists(t *testing.T) {
 	const hash = "dacf2c42 2c4765d6 3c797af8 2cf630eb 699c8c67"
 	checkParse(t, publishedList("3676924800", "3707596800", hash), until(table(published...), 1498608000))
